@@ -1,0 +1,1 @@
+"""Wontbook: what is usual, what is seldom."""
