@@ -2,6 +2,10 @@
 
 import itertools
 
+ALL = (1 << 64) - 1
+BIG = int("9" * 80)
+PENGUINS = "always not penguin or bird\nwhere bird usually fly\nwhere penguin usually not fly"
+
 
 def bits(mask):
     return {world for world in range(mask.bit_length() + 1) if mask // (1 << world) % 2 == 1}
@@ -100,6 +104,19 @@ def expected_levels(frame):
     return tuple(told.get(number) for number in range(len(rules)))
 
 
+def expected_ranks(frame):
+    """Point 15 told once more; None for a torn frame."""
+    found = expected_levels(frame)
+    if None in found:
+        return None
+    broken = [[found[k] for k, rule in enumerate(frame[2]) if world in bits(rule[1])] for world in range(frame[0])]
+    return tuple(max(broken[w], default=-1) + 1 if w in bits(frame[1]) else None for w in range(frame[0]))
+
+
+def random_ranks(chance, size, possible, most):
+    return tuple(chance.randint(0, most) if world in bits(possible) else None for world in range(size))
+
+
 def rankings(size, possible, most):
     """Every ranking with ranks of at most `most`."""
     return itertools.product(*[range(most + 1) if world in bits(possible) else (None,) for world in range(size)])
@@ -108,6 +125,21 @@ def rankings(size, possible, most):
 def fits_rule(ranks, met, broken):
     """Point 14 told once more: some met world stands below every broken one."""
     return any(all(ranks[one] < ranks[other] for other in bits(broken)) for one in bits(met))
+
+
+def expected_answer(ranks, met, broken):
+    """Point 16 told once more: the word, the one world and the other, of the worlds put in a row."""
+    row = sorted((rank, world) for world, rank in enumerate(ranks) if rank is not None)
+    ones = [(rank, world) for rank, world in row if world in bits(met)] or [(None, None)]
+    others = [(rank, world) for rank, world in row if world in bits(broken)] or [(None, None)]
+    low, high = ones[0][0], others[0][0]
+    if low is None:
+        word = "never" if high is None else "seldom"
+    elif high is None:
+        word = "usually"
+    else:
+        word = "usually" if low < high else "seldom" if high < low else "open"
+    return word, ones[0][1], others[0][1]
 
 
 def expected_misfit(frame, ranks):
@@ -120,3 +152,37 @@ def expected_misfit(frame, ranks):
 def has_fitting(frame):
     """Whether some ranking fits. Fitting hangs on which ranks are less alone, so ranks below the size are enough."""
     return any(expected_misfit(frame, ranks) is None for ranks in rankings(frame[0], frame[1], frame[0] - 1))
+
+
+def sides(ranks, news):
+    """The ranked worlds in the news and those not in it."""
+    ranked = [world for world, rank in enumerate(ranks) if rank is not None]
+    return ([world for world in ranked if world in bits(news)], [world for world in ranked if world not in bits(news)])
+
+
+def lowest(ranks, some):
+    return min(ranks[world] for world in some)
+
+
+def expected_firmness(ranks, news):
+    """Point 22 told once more."""
+    inside, outside = sides(ranks, news)
+    return lowest(ranks, outside) - lowest(ranks, inside) if inside and outside else None
+
+
+def expected_believed(ranks, news):
+    ranked = [rank for rank in ranks if rank is not None]
+    return all(world in bits(news) for world, rank in enumerate(ranks) if ranked and rank == min(ranked))
+
+
+def expected_shifted(ranks, news, firm):
+    """Point 21 told once more; None where the news is refused."""
+    inside, outside = sides(ranks, news)
+    if not inside or not outside:
+        return None
+    told = [None] * len(ranks)
+    for world in inside:
+        told[world] = ranks[world] - lowest(ranks, inside)
+    for world in outside:
+        told[world] = ranks[world] - lowest(ranks, outside) + firm
+    return tuple(told)

@@ -171,6 +171,29 @@ class Names(unittest.TestCase):
                 if isinstance(node, ast.Name) and node.id in dir(builtins):
                     self.assertIn(node.id, BUILTINS, (path, node.lineno))
 
+    def test_no_local_is_called_like_an_import_or_a_class(self):
+        for path, tree in trees():
+            taken = [name.name for node in tree.body if isinstance(node, ast.ImportFrom) for name in node.names]
+            taken += [node.name for node in tree.body if isinstance(node, ast.ClassDef)]
+            for node in ast.walk(tree):
+                local = node.arg if isinstance(node, ast.arg) else getattr(node, "id", None)
+                if isinstance(node, ast.arg) or isinstance(getattr(node, "ctx", None), ast.Store):
+                    self.assertNotIn(local, taken, (path, node.lineno))
+
+    def test_classes_are_called_or_stand_as_bases_and_handlers_alone(self):
+        classes = {node.name for _, node in nodes(ast.ClassDef)}
+        for path, tree in trees():
+            fine = []
+            for node in ast.walk(tree):
+                if isinstance(node, ast.Call):
+                    fine += [node.func] + (node.args[1:] if getattr(node.func, "id", "") == "isinstance" else [])
+                fine += getattr(node, "bases", [])
+                fine += [node.type] if isinstance(node, ast.ExceptHandler) else []
+                fine += [node.value] if isinstance(node, ast.Attribute) and node.attr == "__init__" else []
+            for node in ast.walk(tree):
+                if isinstance(node, ast.Name) and node.id in classes:
+                    self.assertTrue(any(node is use for use in fine), (path, node.lineno))
+
     def test_methods_of_pythons_own_values(self):
         own = {node.name for _, node in nodes(ast.FunctionDef)}
         fields = {node.attr for _, node in nodes(ast.Attribute) if isinstance(node.ctx, ast.Store)}

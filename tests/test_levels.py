@@ -6,14 +6,11 @@ import itertools
 import random
 import unittest
 
-from samples import (alone, backwards, bits, chain, expected_levels, has_fitting, random_frame, ring, rules_over,
-                     side_by_side, small_frames, whole)
+from samples import (ALL, PENGUINS, alone, backwards, bits, chain, expected_levels, has_fitting, random_frame, ring,
+                     rules_over, side_by_side, small_frames, whole)
 from wontbook.books import read_book
 from wontbook.frames import frame_of
 from wontbook.levels import core, let_by, levels
-
-ALL = (1 << 64) - 1
-PENGUINS = "always not penguin or bird\nwhere bird usually fly\nwhere penguin usually not fly"
 
 
 def expected_let_by(frame, among, rule):

@@ -6,19 +6,11 @@ import itertools
 import random
 import unittest
 
-from samples import (backwards, bits, chain, expected_levels, expected_misfit, has_fitting, mask_of, random_frame,
-                     rankings, ring, rules_over, side_by_side, small_frames, whole)
+from samples import (ALL, BIG, PENGUINS, backwards, bits, chain, expected_misfit, expected_ranks, has_fitting, mask_of,
+                     random_frame, random_ranks, rankings, ring, rules_over, side_by_side, small_frames, whole)
 from wontbook.books import read_book
 from wontbook.frames import frame_of
 from wontbook.ranks import least, misfit, ranking
-
-ALL = (1 << 64) - 1
-BIG = int("9" * 80)
-PENGUINS = "always not penguin or bird\nwhere bird usually fly\nwhere penguin usually not fly"
-
-
-def random_ranks(chance, size, possible, most):
-    return tuple(chance.randint(0, most) if world in bits(possible) else None for world in range(size))
 
 
 class Least(unittest.TestCase):
@@ -126,17 +118,11 @@ class Ranking(unittest.TestCase):
         kept = copy.deepcopy(frame)
         told = ranking(frame)
         self.assertEqual(frame, kept)
-        found = expected_levels(frame)
-        if None in found:
-            self.assertIsNone(told, frame)
+        self.assertEqual(told, expected_ranks(frame), frame)
+        if told is None:
             return None
         self.assertIs(type(told), tuple)
         self.assertTrue(whole(told))
-        self.assertEqual(len(told), frame[0])
-        for world, rank in enumerate(told):
-            broken = [found[k] for k, rule in enumerate(frame[2]) if world in bits(rule[1])]
-            possible = world in bits(frame[1])
-            self.assertEqual(rank, max(broken, default=-1) + 1 if possible else None, (frame, world))
         self.assertIsNone(misfit(frame, told))
         self.assertIsNone(expected_misfit(frame, told))
         return told

@@ -6,11 +6,10 @@ import itertools
 import random
 import unittest
 
-from samples import bits, mask_of, sentence_over, so
+from samples import ALL, bits, mask_of, sentence_over, so
 from wontbook.worlds import holds, places, shown_world, worlds
 
 NAMES = ("a", "bird", "c", "dog", "eel", "fly")
-ALL = (1 << 64) - 1
 
 
 def names_so(names, world):

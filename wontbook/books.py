@@ -9,7 +9,7 @@ MOST_NAMES = 6
 
 def read_row(line, row=0):
     texts = sentence_texts(line)
-    if not texts:
+    if not texts or "\n" in line:
         raise NoRow(row)
     first = read_sentence(texts[0], row)
     if len(texts) == 1:
@@ -21,8 +21,6 @@ def sentence_texts(line):
     # One text of `always`, two of `where`, none where the words are no row's.
     words = line.split(" ")
     others = words[1:]
-    if "\n" in line:
-        return []
     if words[0] == "always" and others:
         return [" ".join(others)]
     if words[0] == "where" and others.count("usually") == 1:
@@ -41,12 +39,16 @@ def shown_row(told):
 
 
 def read_book(text):
+    return book_of(rows_of(text))
+
+
+def rows_of(text):
     rows = []
     # Cut at line feeds, the empty text would be one empty row.
     lines = text.split("\n") if text else []
     for line in lines:
         rows.append(further_row(rows, line))
-    return book_of(rows)
+    return rows
 
 
 def further_row(rows, line):

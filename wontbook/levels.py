@@ -36,12 +36,18 @@ def is_torn(frame, among):
 
 
 def core(frame):
-    kept = list(range(len(frame[2])))
-    if not is_torn(frame, kept):
+    rules = list(range(len(frame[2])))
+    if not is_torn(frame, rules):
         return None
+    return tuple(needed(frame, rules, []))
+
+
+def needed(frame, rules, besides):
+    # Rules that are torn together with those besides, such that none of them can be left out.
+    kept = rules
     # Going round once is enough: fewer rules are torn no sooner, so a rule once needed stays needed.
-    for rule in range(len(frame[2])):
+    for rule in rules:
         others = [other for other in kept if other != rule]
-        if is_torn(frame, others):
+        if is_torn(frame, others + besides):
             kept = others
-    return tuple(kept)
+    return kept
